@@ -1,0 +1,1 @@
+"""Books of rules on scattered letters, judged for all words."""
