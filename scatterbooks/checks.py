@@ -1,6 +1,6 @@
 """Tests of the values that callers pass."""
 
-from scatterbooks.errors import BadBook
+from scatterbooks.errors import BadBook, BadWord
 
 MOST_LETTERS = 4
 MOST_RULES = 12
@@ -18,6 +18,15 @@ def check_book(book):
         # The rule before has passed, so the two can be compared.
         if index > 0 and rule <= rules[index - 1]:
             raise BadBook(index)
+
+
+def check_word(word, many, most):
+    """Raise BadWord for a value that is no word of at most so many items on so many letters."""
+    if not isinstance(word, tuple) or len(word) > most:
+        raise BadWord(None)
+    for index, item in enumerate(word):
+        if not is_letter(item, many):
+            raise BadWord(index)
 
 
 def is_frame(value):

@@ -55,3 +55,30 @@ def many_books():
                 found.append((many, tuple(rules[start::stride][:1 + (start + stride) % 12])))
     found.append((4, TWELVE))
     return found
+
+
+FREE = (2, (((0,), (1,)), ((1,), (0,))))
+MEET = (2, (((1, 1), (0, 1)), ((1, 1), (1, 0))))
+
+# Values that are no book, with the index that the error names.
+BAD_BOOKS = [(book, None) for book in NO_FRAMES + ODD_VALUES]
+BAD_BOOKS += [((2, (item,)), 0) for item in NO_RULES]
+BAD_BOOKS += [((2, (((0,), (1,)), item)), 1) for item in NO_RULES + [((0,), (1,))]]
+BAD_BOOKS += [((2, (((0, 1), (1, 1)), ((0,), (1,)))), 1), ((4, TWELVE[:11] + (TWELVE[0],)), 11)]
+
+# Values that are no word of two letters, whatever its length, with the index that the error names.
+BAD_WORDS = [(value, None) for value in ODD_VALUES if not isinstance(value, tuple)]
+BAD_WORDS += [([0, 1], None), ("", None), ("01", None), ({0: 1}, None), (10 ** 40, None)]
+BAD_WORDS += [((item,), 0) for item in (2, -1, 10 ** 40, True, False, None, "0", "", (0,), (), [0], {}, {0: 1})]
+BAD_WORDS += [((0, 1, item, item), 2) for item in (2, -1, 10 ** 40, True, False, None, "0", (0,), [0], {})]
+BAD_WORDS += [((0, 2, -1), 1), ((0, 0, 0, 0, 0, 0, 0, 2), 7), ((True, 2), 0), ((0, 1, 0, None, [], 2), 3)]
+
+
+def all_words(many, size):
+    """All words of one length, ascending."""
+    return list(itertools.product(range(many), repeat=size))
+
+
+def short_words(many, most):
+    """All words up to a length, the shorter ones first."""
+    return [word for size in range(most + 1) for word in all_words(many, size)]
