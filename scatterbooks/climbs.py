@@ -2,24 +2,26 @@
 
 from scatterbooks.cones import sides
 from scatterbooks.falls import EARLY, EVEN, LATE, backward_rules, level_number, place_fall, whole_fall
-from scatterbooks.spreads import backward_spread
+from scatterbooks.spreads import backward_spread, for_all
 
 
-def climb(book):
-    """Levels that are a tower for all rules but some, for which no level is of use, and the list of these.
+def climb(book, find_level):
+    """Levels that are a tower for all rules but some, for which no level is of use, and what is left of the rules.
 
-    What can be decided once can still be decided when fewer rules are left, so no choice can be wrong.
+    What is left is a list of lists of rules: those ahead of each level, and at last those behind all levels. A
+    level comes from find_level, for the number of letters and the rules left; None ends the climb.
     """
     many, rules = book
     levels = []
-    left = list(rules)
-    while left:
-        level = useful_level(many, left)
+    lefts = [list(rules)]
+    while lefts[-1]:
+        # What can be decided once can still be decided when fewer rules are left, so no choice can be wrong.
+        level = find_level(many, lefts[-1])
         if level is None:
             break
         levels.append(level)
-        left = [rule for rule in left if level_number(level, rule) == 0]
-    return levels, left
+        lefts.append([rule for rule in lefts[-1] if level_number(level, rule) == 0])
+    return levels, lefts
 
 
 def useful_level(many, rules):
@@ -42,6 +44,18 @@ def is_useful(level, rules):
 def even_sides(many, rules):
     """Weights for an even level of most use, and a number for each rule: above 0 where it is of none."""
     return sides(many, [whole_fall(many, rule) for rule in rules])
+
+
+def lot_for(book, left):
+    """A number for each rule of a book: above 0 for those of the rules left for which no even level is of use."""
+    many, rules = book
+    return for_all(rules, left, even_sides(many, left)[1], [0] * len(rules))
+
+
+def spread_for(book, left, items):
+    """The spread for a book with items for the rules left, and 0 at all places of the others."""
+    rules = book[1]
+    return for_all(rules, left, items, [(0,) * len(rule[0]) for rule in rules])
 
 
 def early_sides(many, rules):

@@ -1,5 +1,7 @@
 """How much places of rules fall by weights, and what levels of towers make of it."""
 
+from itertools import accumulate
+
 from scatterbooks.checks import is_whole
 
 EARLY = "early"
@@ -20,17 +22,51 @@ def is_level(value, many):
     return word in (EARLY, EVEN, LATE) and is_weights(weights, many)
 
 
-def level_number(level, rule):
-    """The number by which a level decides a rule."""
-    word, weights = level
+def place_falls(weights, rule):
+    """By how much each place of a rule falls."""
     left, right = rule
-    falls = [weights[letter] - weights[change] for letter, change in zip(left, right)]
+    return [weights[letter] - weights[change] for letter, change in zip(left, right)]
+
+
+def level_number(level, rule):
+    """The number by which a level of a tower decides a rule."""
+    word, weights = level
+    falls = place_falls(weights, rule)
     if word == EVEN:
         return sum(falls)
     changing = [fall for fall in falls if fall != 0]
     if not changing:
         return 0
     return changing[0] if word == EARLY else changing[-1]
+
+
+def tower_sums(level, rule):
+    """What must not be below 0 for a rule at a level of a tower."""
+    return [level_number(level, rule)]
+
+
+def mild_sums(level, rule):
+    """What must not be below 0 for a rule at a level of a mild tower."""
+    word, weights = level
+    falls = place_falls(weights, rule)
+    if word == EVEN:
+        return [sum(falls)]
+    if word == LATE:
+        falls.reverse()
+    return list(accumulate(falls))
+
+
+def decides_all(value, book, sums):
+    """Whether a value is a tuple of levels with no sums below 0 for the rules left, and none left behind the last."""
+    many, left = book
+    if not isinstance(value, tuple) or not all(is_level(level, many) for level in value):
+        return False
+    for level in value:
+        found = [sums(level, rule) for rule in left]
+        if any([item < 0 for numbers in found for item in numbers]):
+            return False
+        left = [rule for rule, numbers in zip(left, found) if not any(numbers)]
+    return not left
 
 
 def place_fall(many, rule, at):

@@ -47,3 +47,9 @@ def is_spreads(value, book):
 def backward_spread(spread):
     """A spread with each rule's numbers read backward."""
     return tuple([item[::-1] for item in spread])
+
+
+def for_all(rules, left, items, zeros):
+    """The tuple of an item for each rule: of items for those that are left, of zeros for the others."""
+    known = dict(zip(left, items))
+    return tuple([known.get(rule, zero) for rule, zero in zip(rules, zeros)])

@@ -1,22 +1,21 @@
 """Whether runs end from all words: towers show that they do, knots that they do not."""
 
 from scatterbooks.checks import check_book
-from scatterbooks.climbs import climb, early_sides, even_sides, late_sides
-from scatterbooks.falls import is_level, level_number
+from scatterbooks.climbs import climb, early_sides, late_sides, lot_for, spread_for, useful_level
+from scatterbooks.falls import decides_all, tower_sums
 from scatterbooks.spreads import backward_spread, is_even_lot, is_spreads
 
 
 def ends(book):
     """Whether from no word, of any length, a run goes on for ever."""
-    check_book(book)
-    return not climb(book)[1]
+    return tower(book) is not None
 
 
 def tower(book):
     """A tower of a book, None without any."""
     check_book(book)
-    levels, left = climb(book)
-    return None if left else tuple(levels)
+    levels, lefts = climb(book, useful_level)
+    return None if lefts[-1] else tuple(levels)
 
 
 def shows_tower(book, value):
@@ -24,35 +23,18 @@ def shows_tower(book, value):
     check_book(book)
     if value is None:
         return not ends(book)
-    if not isinstance(value, tuple) or not all(is_level(level, book[0]) for level in value):
-        return False
-    left = list(book[1])
-    for level in value:
-        numbers = [level_number(level, rule) for rule in left]
-        if min(numbers, default=0) < 0:
-            return False
-        left = [rule for rule, number in zip(left, numbers) if number == 0]
-    return not left
+    return decides_all(value, book, tower_sums)
 
 
 def knot(book):
     """A knot of a book, None without any."""
     check_book(book)
-    many, rules = book
-    left = climb(book)[1]
+    left = climb(book, useful_level)[1][-1]
     if not left:
         return None
-    zeros = [(0,) * len(rule[0]) for rule in rules]
-    lot = for_all(rules, left, even_sides(many, left)[1], [0] * len(rules))
-    firsts = [for_all(rules, left, spread, zeros) for spread in early_sides(many, left)[1]]
-    lasts = [for_all(rules, left, spread, zeros) for spread in late_sides(many, left)[1]]
-    return lot, tuple(firsts), tuple(lasts)
-
-
-def for_all(rules, left, items, zeros):
-    """The tuple of an item for each rule: of items for those that are left, of zeros for the others."""
-    known = dict(zip(left, items))
-    return tuple([known.get(rule, zero) for rule, zero in zip(rules, zeros)])
+    firsts = [spread_for(book, left, spread) for spread in early_sides(book[0], left)[1]]
+    lasts = [spread_for(book, left, spread) for spread in late_sides(book[0], left)[1]]
+    return lot_for(book, left), tuple(firsts), tuple(lasts)
 
 
 def shows_knot(book, value):

@@ -2,6 +2,7 @@ import copy
 import itertools
 import unittest
 
+from odd import changed_integers, holds_true_or_false, odd_items
 from own import own_balanced, own_knot, own_steps, own_tower
 from scatterbooks import towers
 from scatterbooks.errors import BadBook
@@ -43,35 +44,8 @@ IN_TURN = [
 
 # Twelve rules that only ever put greater letters for less ones, or the other way round as well.
 RISING = (4, tuple(rule for rule in every_rule(4, (2,)) if rule[0][0] < rule[1][0])[::7][:12])
-BOOKS = many_books() + [RISING, SWAPS, FREE, MEET, SORTS] + [book for _, book in ONE_WORD] + [book for book, _ in IN_TURN]
-
-
-def changed_integers(value):
-    """All values that differ from one by 1 at one of its integers."""
-    if isinstance(value, int):
-        yield value + 1
-        yield value - 1
-    elif isinstance(value, tuple):
-        for at, item in enumerate(value):
-            for other in changed_integers(item):
-                yield value[:at] + (other,) + value[at + 1:]
-
-
-def odd_items(value):
-    """All values that differ from one at one of its items, in any depth, by a value of another kind."""
-    yield from (None, True, False, 1, "", "early", [], {}, (), (None,), list(value) if isinstance(value, tuple) else -1)
-    if isinstance(value, tuple):
-        yield value + (0,)
-        yield value + value[-1:] + value[-1:]
-        yield value[:-1]
-        for at, item in enumerate(value):
-            for other in odd_items(item):
-                yield value[:at] + (other,) + value[at + 1:]
-
-
-def holds_true_or_false(value):
-    """Whether True or False stands somewhere in a value."""
-    return isinstance(value, bool) or isinstance(value, tuple) and any(map(holds_true_or_false, value))
+BOOKS = many_books() + [RISING, SWAPS, FREE, MEET, SORTS]
+BOOKS += [book for _, book in ONE_WORD] + [book for book, _ in IN_TURN]
 
 
 class Examples(unittest.TestCase):
